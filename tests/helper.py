@@ -1,0 +1,55 @@
+"""What several tests need: a case that knows refusals, wrong things, and plain slow answers."""
+
+import unittest
+
+from jointsapart.errors import WallError
+
+# Things that are no whole numbers, some of which Python takes for equal to one.
+NOT_WHOLE = (True, False, None, "2", b"2", 2.0, (2,), [2], {2: 2})
+# Things that are no lists or tuples.
+NOT_SEQUENCES = (None, True, 2, "22", b"22", {2: 3}, {2, 3}, range(2, 4))
+
+
+class Case(unittest.TestCase):
+    """A test case with a check of refusals."""
+
+    def refused(self, name, told, call, *args, **more):
+        """Check that the call raises just the error `name` with the attributes `told`."""
+        try:
+            call(*args, **more)
+        except WallError as error:
+            self.assertEqual(type(error).__name__, name)
+            self.assertEqual(vars(error), told)
+            for attribute in told:
+                self.assertIs(type(getattr(error, attribute)), type(told[attribute]))
+            return
+        self.fail(f"{name} was not raised")
+
+    def same_tuple(self, thing, expected):
+        """Check equality, and that there is no list at any depth."""
+        self.assertEqual(thing, expected)
+        self.assertTrue(is_all_tuples(thing), thing)
+
+
+def is_all_tuples(thing):
+    if isinstance(thing, tuple):
+        return all(is_all_tuples(part) for part in thing)
+    return not isinstance(thing, (list, dict, set))
+
+
+def slow_courses(bricks, length):
+    """All rows of these bricks of this length, in ascending order, by plain search."""
+    if length == 0:
+        return [()]
+    return [(brick,) + row for brick in sorted(bricks) if brick <= length
+            for row in slow_courses(bricks, length - brick)]
+
+
+def slow_joints(course):
+    return [sum(course[:many]) for many in range(1, len(course))]
+
+
+def slow_clashes(stock, one, other):
+    """All couples of joints that are less than the lap apart, ascending."""
+    return sorted((joint, place) for joint in slow_joints(one) for place in slow_joints(other)
+                  if abs(joint - place) < stock.lap)

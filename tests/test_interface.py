@@ -1,0 +1,69 @@
+"""The interface: what stands in which file, with which arguments."""
+
+import importlib
+import inspect
+import unittest
+
+FUNCTIONS = {
+    "ratios": [
+        "is_whole(thing, low=None, high=None)", "is_ratio(thing)", "make_ratio(top, bottom=1)", "plus(one, other)",
+        "minus(one, other)", "times(one, other)", "over(one, other)", "negative(one)", "sum_of(ratios)",
+        "least_of(ratios)", "greatest_of(ratios)", "ratio_of(text)", "compare(one, other)", "ratio_text(ratio)"],
+    "course": [
+        "check_course(stock, course)", "mirrored_course(course)", "course_from(joints, length)",
+        "nth_course(stock, length, number)", "joints_of(course)", "length_of(course)", "check_length(length, high=400)",
+        "count_courses(stock, length)", "number_of(stock, course)", "courses_of(stock, length)",
+        "clash_of(stock, one, other)", "are_apart(stock, one, other)"],
+    "stocktext": ["stock_text(stock)", "course_text(course)", "stock_of(text)", "course_of(stock, text)"],
+    "walls": ["all_clashes(wall)", "first_clash(wall)", "is_right(wall)", "check_right(wall)"],
+    "walltext": ["wall_text(wall)", "wall_picture(wall)", "wall_of(stock, text)", "wall_seen(stock, text)"],
+    "wallwork": [
+        "piled(one, other)", "seam_clash(one, other)", "part_of(wall, first, last)", "wall_mirrored(wall)",
+        "upturned(wall)", "with_course(wall, number, course)", "exchanged(wall, first, second)",
+        "check_number(wall, number)"],
+    "freecourses": ["free_courses(wall, number)", "count_free(wall, number)", "first_free(wall, number)"],
+}
+GENERATORS = {"courses_of", "all_clashes", "free_courses"}
+CLASSES = {
+    "stock": {"Stock(bricks, lap=1, reach=1)": [
+        "with_brick(self, brick)", "without_brick(self, brick)", "with_lap(self, lap)", "with_reach(self, reach)",
+        "finer(self, size)", "__eq__(self, other)"]},
+    "walls": {
+        "Wall(stock, courses)": ["__len__(self)", "__eq__(self, other)"],
+        "Clash(lower, upper, joint, other)": ["__eq__(self, other)"]},
+}
+
+
+def module(name):
+    return importlib.import_module(f"jointsapart.{name}")
+
+
+def signed(function):
+    return f"{function.__name__}{inspect.signature(function)}"
+
+
+class Interface(unittest.TestCase):
+    def test_functions(self):
+        for file, rows in FUNCTIONS.items():
+            for row in rows:
+                with self.subTest(row):
+                    function = getattr(module(file), row.split("(")[0])
+                    self.assertEqual(function.__module__, f"jointsapart.{file}")
+                    self.assertEqual(signed(function), row)
+                    self.assertEqual(inspect.isgeneratorfunction(function), function.__name__ in GENERATORS)
+
+    def test_classes(self):
+        for file, classes in CLASSES.items():
+            for row, methods in classes.items():
+                with self.subTest(row):
+                    made = getattr(module(file), row.split("(")[0])
+                    self.assertEqual(made.__module__, f"jointsapart.{file}")
+                    self.assertEqual(signed(made), row)
+                    for method in methods:
+                        self.assertEqual(signed(vars(made)[method.split("(")[0]]), method)
+
+    def test_property(self):
+        self.assertIsInstance(vars(module("stock").Stock)["longest"], property)
+
+    def test_values(self):
+        self.assertEqual((module("ratios").ZERO, module("ratios").ONE), ((0, 1), (1, 1)))
