@@ -18,6 +18,18 @@ def check_course(stock, course):
     return tuple(course)
 
 
+def course_flaw(stock, course, length=None):
+    """Return "course" for what is no course, "length" for one of another length, else None.
+
+    A length that is None does not bind.
+    """
+    try:
+        row = check_course(stock, course)
+    except BadCourse:
+        return "course"
+    return None if length is None or length_of(row) == length else "length"
+
+
 def length_of(course):
     """Return the sum of the bricks."""
     return sum(course)

@@ -21,6 +21,13 @@ def is_sequence(thing, low, high):
     return isinstance(thing, (list, tuple)) and low <= len(thing) <= high
 
 
+def as_tuples(thing):
+    """Return the thing with a tuple in the place of each list, at any depth."""
+    if isinstance(thing, (list, tuple)):
+        return tuple([as_tuples(part) for part in thing])
+    return thing
+
+
 def is_ratio(thing):
     """Tell whether this is a tuple of two whole numbers in lowest terms, the bottom 1 or more."""
     if not isinstance(thing, tuple) or len(thing) != 2:

@@ -1,7 +1,7 @@
 """Walls, their clashes, and whether they are right."""
 
-from jointsapart.course import check_course, joints_of, length_of, near_joints
-from jointsapart.errors import BadCourse, BadWall, NotRight
+from jointsapart.course import course_flaw, joints_of, length_of, near_joints
+from jointsapart.errors import BadWall, NotRight
 from jointsapart.ratios import is_sequence
 
 
@@ -37,21 +37,18 @@ class Clash:
 def _checked_courses(stock, courses):
     if not is_sequence(courses, 1, 60):
         raise BadWall(0, "many")
-    checked = []
-    for number, course in enumerate(courses):
-        row = course_for(stock, course, number)
-        if checked and length_of(row) != length_of(checked[0]):
-            raise BadWall(number, "length")
-        checked.append(row)
+    checked = [course_for(stock, courses[0], 0)]
+    for number in range(1, len(courses)):
+        checked.append(course_for(stock, courses[number], number, length_of(checked[0])))
     return tuple(checked)
 
 
-def course_for(stock, course, number):
+def course_for(stock, course, number, length=None):
     """Return the course as a tuple, or raise BadWall with this number of a course."""
-    try:
-        return check_course(stock, course)
-    except BadCourse:
-        raise BadWall(number, "course") from None
+    flaw = course_flaw(stock, course, length)
+    if flaw is not None:
+        raise BadWall(number, flaw)
+    return tuple(course)
 
 
 def clashes_between(stock, courses, lower, upper):
@@ -62,11 +59,16 @@ def clashes_between(stock, courses, lower, upper):
         yield Clash(lower, upper, joint, other)
 
 
+def clashes_of(stock, courses):
+    """Yield all clashes of these courses, laid on one another, by upper, lower, joint and other."""
+    for upper in range(len(courses)):
+        for lower in range(max(0, upper - stock.reach), upper):
+            yield from clashes_between(stock, courses, lower, upper)
+
+
 def all_clashes(wall):
     """Yield all clashes by upper, lower, joint and other."""
-    for upper in range(len(wall)):
-        for lower in range(max(0, upper - wall.stock.reach), upper):
-            yield from clashes_between(wall.stock, wall.courses, lower, upper)
+    yield from clashes_of(wall.stock, wall.courses)
 
 
 def first_clash(wall):

@@ -1,7 +1,7 @@
 """Walls made from walls: piles, parts, turned walls and exchanged courses."""
 
-from jointsapart.course import length_of, mirrored_course
-from jointsapart.errors import BadWall, CannotPile, NoCourses, NoNumber
+from jointsapart.course import mirrored_course
+from jointsapart.errors import CannotPile, NoCourses, NoNumber
 from jointsapart.ratios import is_whole
 from jointsapart.walls import Wall, clashes_between, course_for
 
@@ -62,11 +62,8 @@ def check_number(wall, number):
 def with_course(wall, number, course):
     """Return the wall with this course in the place of course `number`."""
     check_number(wall, number)
-    row = course_for(wall.stock, course, number)
-    if length_of(row) != wall.length:
-        raise BadWall(number, "length")
     courses = list(wall.courses)
-    courses[number] = row
+    courses[number] = course_for(wall.stock, course, number, wall.length)
     return Wall(wall.stock, courses)
 
 

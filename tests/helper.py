@@ -1,6 +1,7 @@
 """What several tests need: a case that knows refusals, wrong things, and plain slow answers."""
 
 import unittest
+from itertools import combinations_with_replacement
 
 from jointsapart.errors import WallError
 
@@ -53,3 +54,29 @@ def slow_clashes(stock, one, other):
     """All couples of joints that are less than the lap apart, ascending."""
     return sorted((joint, place) for joint in slow_joints(one) for place in slow_joints(other)
                   if abs(joint - place) < stock.lap)
+
+
+def slow_apart(stock, courses):
+    """Whether each two of these courses are apart."""
+    return not any(slow_clashes(stock, one, other)
+                   for at, one in enumerate(courses) for other in courses[at + 1:])
+
+
+def slow_lots(stock, length, size):
+    """All lots of `size` courses of this length, ascending, by trying each choice."""
+    return [lot for lot in combinations_with_replacement(slow_courses(stock.bricks, length), size)
+            if slow_apart(stock, lot)]
+
+
+def slow_right(stock, courses):
+    """Whether these courses make a right wall, of any height."""
+    return all(slow_apart(stock, courses[at:at + stock.reach + 1]) for at in range(len(courses)))
+
+
+def slow_walls(stock, length, height, first=()):
+    """All right walls, as tuples of courses, that begin with the courses of `first` and have `height` more."""
+    walls = [tuple(first)]
+    for _ in range(height):
+        walls = [wall + (course,) for wall in walls for course in slow_courses(stock.bricks, length)
+                 if slow_right(stock, (wall + (course,))[-stock.reach - 1:])]
+    return walls

@@ -3,7 +3,7 @@
 from itertools import islice
 
 from jointsapart.course import (
-    are_apart, check_course, check_length, clash_of, count_courses, course_from, courses_of, joints_of, length_of,
+    are_apart, check_course, check_length, clash_of, count_courses, course_flaw, course_from, courses_of, joints_of, length_of,
     mirrored_course, nth_course, number_of)
 from jointsapart.stock import Stock
 from tests.helper import NOT_SEQUENCES, NOT_WHOLE, Case, slow_clashes, slow_courses, slow_joints
@@ -227,3 +227,14 @@ class Finer(Case):
                 for other in courses:
                     scaled = [[size * brick for brick in course] for course in (one, other)]
                     self.assertIs(are_apart(stock.finer(size), *scaled), are_apart(stock, one, other))
+
+
+class Flaws(Case):
+    def test_course_flaw(self):
+        stock = Stock((2, 3))
+        for length in (None, 5):
+            self.assertIs(course_flaw(stock, [2, 3], length), None)
+            for thing in (*NOT_SEQUENCES, (), (2, 4), (2, True)):
+                self.assertEqual(course_flaw(stock, thing, length), "course")
+        self.assertIs(course_flaw(stock, (2, 2)), None)
+        self.assertEqual(course_flaw(stock, (2, 2), 5), "length")

@@ -22,8 +22,29 @@ FUNCTIONS = {
         "upturned(wall)", "with_course(wall, number, course)", "exchanged(wall, first, second)",
         "check_number(wall, number)"],
     "freecourses": ["free_courses(wall, number)", "count_free(wall, number)", "first_free(wall, number)"],
+    "wallchanges": ["changes_between(one, other)", "fewest_changes(wall)"],
+    "rounds": [
+        "apart_lots(stock, length, size)", "round_fault(stock, courses)", "round_for(stock, length)",
+        "all_rounds(stock, length)", "greatest_height(stock, length)", "course_at(laid, number)",
+        "wall_from(laid, height)", "rotated(laid, by)", "ordered(laid, order)"],
+    "heights": ["walls_counted(stock, length, height)", "most_on(wall)", "goes_on(wall)"],
+    "bridges": [
+        "bridge_fault(lower, upper, courses)", "least_bridges(lower, upper)", "bridges_over(lower, upper, number)",
+        "bridge_of(lower, upper, number)", "shortest_bridge(lower, upper)", "nobridge_fault(lower, upper, tops)"],
+    "repeating": ["until_repeated(first, step, *, most=4000)"],
+    "calendars": [
+        "calendar_from(answers, back)", "serves(calendar, length)", "first_served(calendar, length)",
+        "count_served(calendar, length)", "joined_calendars(one, other)", "common_calendar(one, other)",
+        "opposite_calendar(calendar)", "first_difference(one, other)"],
+    "stands": [
+        "first_stand(size)", "unit_steps(stock, couples)", "next_stands(stock, stand)", "can_finish(stock, stand)",
+        "crowd_ring(stock, size, *, most=4000)", "crowd_after(stock, size, units, *, most=4000)"],
+    "lengths": [
+        "length_calendar(stock, *, size=None, most=4000)", "same_lengths(one, other)",
+        "courses_for(stock, length, *, size=None)", "barred_fault(stock, size, length, barred)"],
+    "means": ["least_mean(many, edges)", "net_fault(many, edges, rate)"],
 }
-GENERATORS = {"courses_of", "all_clashes", "free_courses"}
+GENERATORS = {"courses_of", "all_clashes", "free_courses", "apart_lots", "all_rounds"}
 CLASSES = {
     "stock": {"Stock(bricks, lap=1, reach=1)": [
         "with_brick(self, brick)", "without_brick(self, brick)", "with_lap(self, lap)", "with_reach(self, reach)",
@@ -31,6 +52,15 @@ CLASSES = {
     "walls": {
         "Wall(stock, courses)": ["__len__(self)", "__eq__(self, other)"],
         "Clash(lower, upper, joint, other)": ["__eq__(self, other)"]},
+    "wallchanges": {"Changed(number, wall)": []},
+    "rounds": {
+        "Round(stock, courses)": ["__len__(self)", "__iter__(self)", "__eq__(self, other)"],
+        "Highest(courses)": ["__len__(self)", "__eq__(self, other)"]},
+    "bridges": {"NoBridge(tops)": ["__eq__(self, other)"]},
+    "repeating": {"Repeating(things, back)": ["at(self, number)", "__eq__(self, other)"]},
+    "calendars": {"Calendar(before, lengths, period, rests)": ["__contains__(self, number)", "__eq__(self, other)"]},
+    "lengths": {"Barred(size, crowds)": ["__eq__(self, other)"]},
+    "means": {"Rate(ratio, ring, numbers)": ["__eq__(self, other)"]},
 }
 
 

@@ -139,6 +139,34 @@ class Language(unittest.TestCase):
                   lambda node: node.name.strip("_") in DOUBLE and isinstance(PARENTS[id(node)], ast.ClassDef), "L5")
         self.each(lambda file: file.of(ast.ClassDef), lambda node: not node.decorator_list and not node.keywords, "L5")
 
+    def test_bodies_of_double_underscores(self):
+        """One statement each: what iterates, measures and compares does nothing else."""
+        forms = {"__iter__": r"return iter\(self\.\w+\)", "__len__": r"return len\(self\.\w+\)",
+                 "__eq__": r"return isinstance\(other, \w+\)( and \(?self\.\w+ == other\.\w+\)?)+"}
+        self.each(lambda file: [node for node in file.of(ast.FunctionDef) if node.name in forms], lambda node: (
+            len(node.body) == 1 and re.fullmatch(forms[node.name], ast.unparse(node.body[0]))), "L5, L28")
+
+    def test_operators_and_properties_change_nothing(self):
+        """No attribute or item is assigned in them."""
+        self.each(lambda file: [part for node in file.of(ast.FunctionDef)
+                                if node.decorator_list or node.name.startswith("__") and node.name != "__init__"
+                                for part in ast.walk(node)],
+                  lambda node: not isinstance(node, (ast.Attribute, ast.Subscript)) or isinstance(node.ctx, ast.Load), "L5")
+
+    def test_attributes_and_methods_have_names_of_their_own(self):
+        methods = {node.name for file in FILES.values() for node in file.of(ast.FunctionDef)
+                   if isinstance(PARENTS[id(node)], ast.ClassDef)}
+        assigned = {node.attr for file in FILES.values() for node in file.of(ast.Attribute)
+                    if isinstance(node.ctx, ast.Store)}
+        self.assertEqual(methods & assigned, set())
+
+    def test_calls_of_the_library(self):
+        """Chains are iterated at once; what is kept is not."""
+        names = {"chain", "accumulate", "pairwise", "islice", "zip_longest", "map", "zip", "enumerate", "reversed"}
+        self.each(lambda file: [node for node in file.of(ast.Call) if ast.unparse(node.func) in names], lambda node: (
+            isinstance(PARENTS[id(node)], (ast.For, ast.comprehension)) or isinstance(PARENTS[id(node)], ast.Call)
+            and ast.unparse(PARENTS[id(node)].func) in ("list", "tuple", "dict", "sum", "sorted", "enumerate", "zip")), "L23")
+
     def test_expressions(self):
         self.each(lambda file: file.of(ast.Constant), lambda node: not isinstance(node.value, (float, complex)), "L7")
         self.each(lambda file: file.of(ast.BinOp, ast.AugAssign), lambda node: not isinstance(

@@ -3,7 +3,7 @@
 from fractions import Fraction
 
 from jointsapart.ratios import (
-    ONE, ZERO, compare, greatest_of, is_ratio, is_whole, least_of, make_ratio, minus, negative,
+    ONE, ZERO, as_tuples, compare, greatest_of, is_ratio, is_whole, least_of, make_ratio, minus, negative,
     over, plus, ratio_of, ratio_text, sum_of, times)
 from tests.helper import NOT_SEQUENCES, NOT_WHOLE, Case
 
@@ -153,3 +153,12 @@ class Texts(Case):
         for thing in (None, 3, True, b"3", (3, 1), ["3"], 3.0, *NOT_SEQUENCES):
             if not isinstance(thing, str):
                 self.refused("BadRatio", {"what": "text"}, ratio_of, thing)
+
+
+class Tuples(Case):
+    def test_lists_at_any_depth(self):
+        things = [1, [2, (3, [4, True])], "ab", ()]
+        self.same_tuple(as_tuples(things), (1, (2, (3, (4, True))), "ab", ()))
+        self.assertEqual(things, [1, [2, (3, [4, True])], "ab", ()])
+        for thing in (None, 5, "ab", True):
+            self.assertIs(as_tuples(thing), thing)
