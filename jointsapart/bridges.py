@@ -45,7 +45,7 @@ def bridge_fault(lower, upper, courses):
 
 def _bears(table, top, upper):
     """Tell whether these courses can lie directly below the upper wall."""
-    bottoms = [table.joints[table.numbers[course]] for course in upper.courses[:table.reach]]
+    bottoms = [table.places[table.numbers[course]] for course in upper.courses[:table.reach]]
     for depth, number in enumerate(top[::-1]):
         # The deeper a course lies, the fewer courses of the upper wall are within its reach.
         if any([table.bars[number] & joints for joints in bottoms[:table.reach - depth]]):

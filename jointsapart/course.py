@@ -136,3 +136,23 @@ def clash_of(stock, one, other):
 def are_apart(stock, one, other):
     """Tell whether each joint of the one course is at least the lap from each of the other."""
     return clash_of(stock, one, other) is None
+
+
+def lot_flaw(stock, courses, low, high):
+    """Return (number, word) that tell why these are not low to high courses of one length, pairwise apart, or None."""
+    if not is_sequence(courses, low, high):
+        return (0, "many")
+    for number in range(len(courses)):
+        word = _word_for(stock, courses, number)
+        if word is not None:
+            return (number, word)
+    return None
+
+
+def _word_for(stock, courses, number):
+    """Return what is wrong with this course while those before it have no fault, or None."""
+    course = courses[number]
+    word = course_flaw(stock, course, length_of(courses[0]) if number > 0 else None)
+    if word is None and not all([are_apart(stock, course, earlier) for earlier in courses[:number]]):
+        return "clash"
+    return word

@@ -1,10 +1,10 @@
 """The lengths that have so many courses pairwise apart, and such courses or what shows that there are none."""
 
 from jointsapart.calendars import calendar_from, first_difference
-from jointsapart.course import check_length, course_from
+from jointsapart.course import check_length
 from jointsapart.ratios import as_tuples, is_sequence, is_whole
-from jointsapart.stands import (can_finish, check_lot_size, crowd_ring, first_stand, next_crowd, next_stands,
-                                unit_steps)
+from jointsapart.stands import (can_finish, check_lot_size, couples_into, crowd_ring, first_stand, is_stand,
+                                next_crowd, next_stands, rows_along)
 
 
 class Barred:
@@ -58,18 +58,10 @@ def _ways_through(stock, crowds):
 def _lot_along(stock, size, ways):
     """Return the lot that a way through these stands, unit by unit, tells."""
     length = len(ways) - 1
-    couples = first_stand(size)
-    joints = [[] for _ in range(size)]
-    for place in range(1, length + 1):
-        index, couples = _step_into(stock, couples, ways[place])
-        if index is not None:
-            joints[index].append(place)
-    return tuple(sorted([course_from(places, length) for places in joints]))
-
-
-def _step_into(stock, couples, stands):
-    """Return the first row of unit_steps whose couples make one of these stands; there must be one."""
-    return [row for row in unit_steps(stock, couples) if tuple(sorted(row[1])) in stands][0]
+    ends = [first_stand(size)]
+    for stands in ways[1:]:
+        ends.append(couples_into(stock, ends[-1], stands))
+    return tuple(sorted(rows_along(ends, [length] * size)))
 
 
 def barred_fault(stock, size, length, barred):
@@ -95,10 +87,4 @@ def _stands_in(crowd):
     """Return the stands of a crowd; what only looks like one, as with 1 in the place of True, is none."""
     if not isinstance(crowd, tuple):
         return {}
-    return {stand: True for stand in crowd if isinstance(stand, tuple) and all([_is_couple(thing) for thing in stand])}
-
-
-def _is_couple(thing):
-    if not isinstance(thing, tuple) or len(thing) != 2:
-        return False
-    return is_whole(thing[0], 0) and isinstance(thing[1], bool)
+    return {stand: True for stand in crowd if is_stand(stand)}

@@ -1,6 +1,6 @@
 """Whole numbers, sequences and ratios: tuples (top, bottom) in lowest terms."""
 
-from math import gcd
+from math import gcd, lcm
 
 from jointsapart.errors import BadRatio
 
@@ -26,6 +26,14 @@ def as_tuples(thing):
     if isinstance(thing, (list, tuple)):
         return tuple([as_tuples(part) for part in thing])
     return thing
+
+
+def common_multiple(numbers):
+    """Return the least common multiple of whole numbers from 1 on, 1 for none."""
+    multiple = 1
+    for number in numbers:
+        multiple = lcm(multiple, number)
+    return multiple
 
 
 def is_ratio(thing):

@@ -34,6 +34,11 @@ def until_repeated(first, step, *, most=4000):
     """Return the Repeating of the first thing and of what comes of it step by step."""
     if not is_whole(most, 1, 4000):
         raise BadMost()
+    return ring_within(first, step, most)
+
+
+def ring_within(first, step, most=None):
+    """Return what until_repeated does; a bound that is None does not bind."""
     numbers = {}
     thing = first
     while thing not in numbers:

@@ -1,6 +1,6 @@
 """Rounds: courses that are pairwise apart, laid again and again for every height."""
 
-from jointsapart.course import are_apart, check_length, course_flaw, length_of
+from jointsapart.course import check_length, length_of, lot_flaw
 from jointsapart.errors import BadHeight, BadOrder, BadRound, BadSize, NoNumber
 from jointsapart.ratios import is_sequence, is_whole
 from jointsapart.tables import Table
@@ -44,22 +44,7 @@ class Highest:
 def _flaw_of(stock, courses):
     """Return the number of a course and the word that tell why this is no round, or None."""
     size = stock.reach + 1
-    if not is_sequence(courses, size, size):
-        return (0, "many")
-    for number in range(size):
-        word = _word_for(stock, courses, number)
-        if word is not None:
-            return (number, word)
-    return None
-
-
-def _word_for(stock, courses, number):
-    """Return what is wrong with this course while those before it have no fault, or None."""
-    course = courses[number]
-    word = course_flaw(stock, course, length_of(courses[0]) if number > 0 else None)
-    if word is None and not all([are_apart(stock, course, earlier) for earlier in courses[:number]]):
-        return "clash"
-    return word
+    return lot_flaw(stock, courses, size, size)
 
 
 def round_fault(stock, courses):
@@ -88,7 +73,7 @@ def _lots_among(table, numbers, size):
         else:
             bars = table.bars[number]
             # The course itself is among those that may follow, since one without joints may come again.
-            others = [other for other in numbers[at:] if not bars & table.joints[other]]
+            others = [other for other in numbers[at:] if not bars & table.places[other]]
             for lot in _lots_among(table, others, fewer):
                 yield (number,) + lot
 

@@ -38,6 +38,39 @@ def can_finish(stock, stand):
     return all([age in stock.bricks for age, _ in stand])
 
 
+def is_couple(thing):
+    """Tell whether this is a tuple of an age and True or False; 1 in the place of True is not let."""
+    if not isinstance(thing, tuple) or len(thing) != 2:
+        return False
+    return is_whole(thing[0], 0) and isinstance(thing[1], bool)
+
+
+def is_stand(thing):
+    """Tell whether this is a tuple of couples."""
+    return isinstance(thing, tuple) and all([is_couple(part) for part in thing])
+
+
+def couples_into(stock, couples, stands):
+    """Return the first couples that can come of these within one unit and make one of the stands, or None."""
+    for _, after in unit_steps(stock, couples):
+        if tuple(sorted(after)) in stands:
+            return after
+    return None
+
+
+def rows_along(ends, lasts):
+    """Return the row of bricks of each course that has these couples, place by place.
+
+    A row begins where the course's last joint or its beginning is, and ends at its entry of `lasts`.
+    """
+    rows = []
+    for number, last in enumerate(lasts):
+        joints = [place for place in range(1, len(ends)) if ends[place][number] == (0, False)]
+        places = [-ends[0][number][0], *joints, last]
+        rows.append(tuple([right - left for left, right in zip(places, places[1:])]))
+    return tuple(rows)
+
+
 def next_crowd(stock, crowd):
     """Return the ascending stands that can come of the stands of a crowd in one unit."""
     return tuple(sorted({after for stand in crowd for after in next_stands(stock, stand)}))

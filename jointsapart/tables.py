@@ -10,8 +10,8 @@ class Table:
         self.reach = stock.reach
         self.courses = tuple(courses_of(stock, length))
         self.numbers = {course: number for number, course in enumerate(self.courses)}
-        self.joints = tuple([_bits(joints_of(course)) for course in self.courses])
-        self.bars = tuple([_spread(joints, stock.lap) for joints in self.joints])
+        self.places = tuple([_bits(joints_of(course)) for course in self.courses])
+        self.bars = tuple([_spread(joints, stock.lap) for joints in self.places])
         self.known = {}
 
     def apart_from(self, numbers):
@@ -20,7 +20,7 @@ class Table:
         for number in numbers:
             barred = barred | self.bars[number]
         if barred not in self.known:
-            self.known[barred] = tuple([number for number, joints in enumerate(self.joints) if not barred & joints])
+            self.known[barred] = tuple([number for number, joints in enumerate(self.places) if not barred & joints])
         return self.known[barred]
 
     def told(self, numbers):

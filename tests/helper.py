@@ -1,7 +1,8 @@
 """What several tests need: a case that knows refusals, wrong things, and plain slow answers."""
 
 import unittest
-from itertools import combinations_with_replacement
+from fractions import Fraction
+from itertools import combinations_with_replacement, product
 
 from jointsapart.errors import WallError
 
@@ -80,3 +81,75 @@ def slow_walls(stock, length, height, first=()):
         walls = [wall + (course,) for wall in walls for course in slow_courses(stock.bricks, length)
                  if slow_right(stock, (wall + (course,))[-stock.reach - 1:])]
     return walls
+
+
+def all_ends(stock, size):
+    """All ends of so many courses, in the words of [5.1], ascending."""
+    couples = [(age, fresh) for age in range(stock.longest + 1) for fresh in (False, True)]
+    found = []
+    for end in product(couples, repeat=size):
+        fresh = {age for age, young in end if young}
+        ages = [age for age, young in end if not young]
+        if len(fresh) > 1 or any(age > begun - min(stock.bricks) for age in ages for begun in fresh):
+            continue
+        if all(abs(one - other) >= stock.lap for at, one in enumerate(ages) for other in ages[at + 1:]):
+            found.append(end)
+    return found
+
+
+def slow_ways(stock, end, units):
+    """The set of all ends that so many units can lead to, in the words of [4.8]."""
+    crowd = {end}
+    for _ in range(units):
+        found = set()
+        for couples in crowd:
+            older = [(age + 1, fresh) for age, fresh in couples]
+            for at in range(-1, len(older)):
+                after = list(older)
+                if at >= 0:
+                    others = [age for by, (age, fresh) in enumerate(older) if by != at and not fresh]
+                    if older[at][0] not in stock.bricks or any(age < stock.lap for age in others):
+                        continue
+                    after[at] = (0, False)
+                if all(age <= max(stock.bricks) for age, _ in after):
+                    found.add(tuple(after))
+        crowd = found
+    return crowd
+
+
+def can_end(stock, end):
+    return all(age in stock.bricks for age, _ in end)
+
+
+def slow_patterns(a_count, b_count):
+    """All patterns of the counts, ascending."""
+    return [row for row in product((0, 1), repeat=a_count + b_count) if sum(row) == b_count]
+
+
+def fraction(ratio):
+    return None if ratio is None else Fraction(ratio[0], ratio[1])
+
+
+def ratio_from(number):
+    return (Fraction(number).numerator, Fraction(number).denominator)
+
+
+def slow_places(pattern, ratio):
+    """The places of the joints of a pattern at a ratio, as fractions."""
+    bricks = [Fraction(1), Fraction(ratio)]
+    return [sum((bricks[brick] for brick in pattern[:many]), Fraction(0)) for many in range(1, len(pattern))]
+
+
+def slow_share(one, other, ratio):
+    """The least distance of the joints of two patterns, or None."""
+    return min([abs(place - far) for place in slow_places(one, ratio) for far in slow_places(other, ratio)], default=None)
+
+
+def slow_widest(a_count, b_count, ratio):
+    """The widest share of the counts at a ratio, over all couples."""
+    patterns = slow_patterns(a_count, b_count)
+    shares = [slow_share(one, other, ratio) for at, one in enumerate(patterns) for other in patterns[at:]]
+    return None if shares == [None] else max(shares)
+
+
+ALL_COUNTS = [(a_count, b_count) for a_count in range(9) for b_count in range(9 - a_count) if a_count + b_count > 0]

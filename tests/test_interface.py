@@ -43,8 +43,38 @@ FUNCTIONS = {
         "length_calendar(stock, *, size=None, most=4000)", "same_lengths(one, other)",
         "courses_for(stock, length, *, size=None)", "barred_fault(stock, size, length, barred)"],
     "means": ["least_mean(many, edges)", "net_fault(many, edges, rate)"],
+    "ends": [
+        "check_end(stock, end)", "end_of(stock, courses, units)", "stand_of_end(stock, end)", "next_ends(stock, end)",
+        "goes_far(stock, end)", "end_calendar(stock, end)"],
+    "notice": [
+        "met_crowd(stock, end)", "finishing_crowd(stock, end, units)", "phase_of(moment, *, every=1, since=0)",
+        "notice_does(stock, end, units, *, every=1, since=0)", "least_notices(stock, end, *, every=1, since=0)",
+        "notice_calendar(stock, end, *, every=1, since=0)", "notice_steps(stock, end)",
+        "least_wait(stock, end, *, every=1, since=0)"],
+    "plans": [
+        "notice_plan(stock, end, units, *, every=1, since=0)", "stand_at(plan, moment)",
+        "plan_fault(stock, end, plan, units, *, every=1, since=0)",
+        "noplan_fault(stock, end, noplan, units, *, every=1, since=0)", "played_rows(stock, end, plan, moment, units)"],
+    "gaps": [
+        "fill_gap(stock, left, right, length)", "gap_calendar(stock, left, right)",
+        "gap_fault(stock, left, right, length, filling)"],
+    "patterns": [
+        "check_pattern(pattern)", "check_brick_ratio(ratio)", "check_share(share)", "check_counts(a_count, b_count)",
+        "pattern_counts(pattern)", "pattern_joints(pattern)", "mirrored_pattern(pattern)", "place_at(joint, ratio)",
+        "stock_ratio(stock)", "course_by(stock, pattern)", "pattern_by(stock, course)", "patterns_of(a_count, b_count)"],
+    "stretches": [
+        "is_in_stretches(stretches, ratio)", "either_stretches(one, other)", "both_stretches(one, other)",
+        "are_within(one, other)"],
+    "apartness": [
+        "kept_stretches(joint, other, share)", "apart_stretches(one, other, share)", "apart_from(one, other, share)",
+        "share_at(one, other, ratio)", "clash_at(one, other, share, ratio)"],
+    "widest": [
+        "widest_share(a_count, b_count, ratio)", "share_profile(a_count, b_count)",
+        "couple_stretches(a_count, b_count, share)", "couple_for(a_count, b_count, share, ratio)",
+        "couple_fault(a_count, b_count, share, ratio, couple)"],
+    "bestcouple": ["last_whole(a_count, b_count)", "best_couple(a_count, b_count)", "best_fault(a_count, b_count, couple)"],
 }
-GENERATORS = {"courses_of", "all_clashes", "free_courses", "apart_lots", "all_rounds"}
+GENERATORS = {"courses_of", "all_clashes", "free_courses", "apart_lots", "all_rounds", "patterns_of"}
 CLASSES = {
     "stock": {"Stock(bricks, lap=1, reach=1)": [
         "with_brick(self, brick)", "without_brick(self, brick)", "with_lap(self, lap)", "with_reach(self, reach)",
@@ -61,7 +91,11 @@ CLASSES = {
     "calendars": {"Calendar(before, lengths, period, rests)": ["__contains__(self, number)", "__eq__(self, other)"]},
     "lengths": {"Barred(size, crowds)": ["__eq__(self, other)"]},
     "means": {"Rate(ratio, ring, numbers)": ["__eq__(self, other)"]},
+    "plans": {"Plan(way, ring)": ["__eq__(self, other)"], "NoPlan(bounds)": ["__eq__(self, other)"]},
+    "stretches": {"Stretch(low, high)": ["__contains__(self, ratio)", "__eq__(self, other)"]},
+    "widest": {"Segment(low, high, start, rise)": []},
 }
+PROPERTIES = (("stock", "Stock", "longest"), ("stretches", "Stretch", "low_shut"))
 
 
 def module(name):
@@ -92,8 +126,9 @@ class Interface(unittest.TestCase):
                     for method in methods:
                         self.assertEqual(signed(vars(made)[method.split("(")[0]]), method)
 
-    def test_property(self):
-        self.assertIsInstance(vars(module("stock").Stock)["longest"], property)
+    def test_properties(self):
+        for file, made, name in PROPERTIES:
+            self.assertIsInstance(vars(getattr(module(file), made))[name], property)
 
     def test_values(self):
         self.assertEqual((module("ratios").ZERO, module("ratios").ONE), ((0, 1), (1, 1)))
