@@ -47,3 +47,8 @@ def ring_within(first, step, most=None):
         numbers[thing] = len(numbers)
         thing = step(thing)
     return Repeating(list(numbers), numbers[thing])
+
+
+def without_first(ring):
+    """Return the endless sequence without its first thing."""
+    return Repeating([*ring.things[1:], ring.things[ring.back]], ring.back)

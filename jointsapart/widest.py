@@ -139,13 +139,17 @@ def couple_fault(a_count, b_count, share, ratio, couple):
 
 def patterns_fault(counts, couple):
     """Return the word that tells why these are not two patterns of the counts, or None."""
+    word = form_fault(couple)
+    if word is None and any([pattern_counts(pattern) != counts for pattern in couple]):
+        return "counts"
+    return word
+
+
+def form_fault(couple):
+    """Return the word that tells why these are not two patterns, or None."""
     if not is_sequence(couple, 2, 2):
         return "many"
-    if not all([is_pattern(pattern) for pattern in couple]):
-        return "pattern"
-    if any([pattern_counts(pattern) != counts for pattern in couple]):
-        return "counts"
-    return None
+    return None if all([is_pattern(pattern) for pattern in couple]) else "pattern"
 
 
 def is_pattern(thing):

@@ -2,6 +2,7 @@
 
 import unittest
 from fractions import Fraction
+from functools import lru_cache
 from itertools import combinations_with_replacement, product
 
 from jointsapart.errors import WallError
@@ -134,6 +135,7 @@ def ratio_from(number):
     return (Fraction(number).numerator, Fraction(number).denominator)
 
 
+@lru_cache(None)
 def slow_places(pattern, ratio):
     """The places of the joints of a pattern at a ratio, as fractions."""
     bricks = [Fraction(1), Fraction(ratio)]
@@ -145,6 +147,7 @@ def slow_share(one, other, ratio):
     return min([abs(place - far) for place in slow_places(one, ratio) for far in slow_places(other, ratio)], default=None)
 
 
+@lru_cache(None)
 def slow_widest(a_count, b_count, ratio):
     """The widest share of the counts at a ratio, over all couples."""
     patterns = slow_patterns(a_count, b_count)
@@ -153,3 +156,15 @@ def slow_widest(a_count, b_count, ratio):
 
 
 ALL_COUNTS = [(a_count, b_count) for a_count in range(9) for b_count in range(9 - a_count) if a_count + b_count > 0]
+
+
+def slow_face(breadth, letter, course):
+    """The joints of a face, in the words of [7.3]."""
+    joints = slow_joints(course)
+    if letter != "b":
+        return joints
+    return [breadth, *[breadth + joint for joint in joints], breadth + sum(course)]
+
+
+def slow_faces_apart(stock, breadth, one, other):
+    return all(abs(joint - place) >= stock.lap for joint in slow_face(breadth, *one) for place in slow_face(breadth, *other))

@@ -73,8 +73,33 @@ FUNCTIONS = {
         "couple_stretches(a_count, b_count, share)", "couple_for(a_count, b_count, share, ratio)",
         "couple_fault(a_count, b_count, share, ratio, couple)"],
     "bestcouple": ["last_whole(a_count, b_count)", "best_couple(a_count, b_count)", "best_fault(a_count, b_count, couple)"],
+    "anylengths": [
+        "length_stretches(a_count, b_count, share)", "courses_at(a_count, b_count, share, ratio)",
+        "courses_fault(a_count, b_count, share, ratio, couple)"],
+    "drifts": [
+        "drift_for(a_count, b_count, low, high)", "reach_from(a_count, b_count, ratio)",
+        "drift_marks(a_count, b_count, low, high)"],
+    "driftjudge": [
+        "drift_fault(a_count, b_count, low, high, drift)", "marks_fault(a_count, b_count, low, high, marks)"],
+    "sides": [
+        "standard_corners(stock)", "exchange_corners(corners)", "corner_clash(stock, corners)", "face_joints(breadth, face)",
+        "side_clash(stock, breadth, one, other)", "side_round(stock, breadth, side)", "side_calendar(stock, breadth)"],
+    "sidewalks": [
+        "side_walk(stock, breadth, side, corners=None)", "walk_course(walk, number)",
+        "walk_fault(stock, breadth, side, walk)"],
+    "towers": [
+        "tower_for(stock, breadth, one, other, corners=None)", "tower_height(stock, breadth, one, other, corners=None)",
+        "tower_course(tower, number)", "tower_bricks(stock, tower, height)"],
+    "wells": [
+        "turn_well(course, by)", "well_courses(stock, girth)", "count_well_courses(stock, girth)",
+        "well_clash(stock, one, other)", "well_round(stock, girth)", "well_calendar(stock)"],
+    "spirals": [
+        "spiral_clash(stock, girth, bricks)", "spiral_for(stock, girth)", "spiral_calendar(stock, bricks)",
+        "spiral_joints(spiral, number)"],
+    "tariffs": [
+        "cut_tariff(stock)", "cheapest_lot(stock, tariff, length)", "tariff_net(stock, tariff)", "tariff_rate(stock, tariff)"],
 }
-GENERATORS = {"courses_of", "all_clashes", "free_courses", "apart_lots", "all_rounds", "patterns_of"}
+GENERATORS = {"courses_of", "all_clashes", "free_courses", "apart_lots", "all_rounds", "patterns_of", "well_courses"}
 CLASSES = {
     "stock": {"Stock(bricks, lap=1, reach=1)": [
         "with_brick(self, brick)", "without_brick(self, brick)", "with_lap(self, lap)", "with_reach(self, reach)",
@@ -94,8 +119,14 @@ CLASSES = {
     "plans": {"Plan(way, ring)": ["__eq__(self, other)"], "NoPlan(bounds)": ["__eq__(self, other)"]},
     "stretches": {"Stretch(low, high)": ["__contains__(self, ratio)", "__eq__(self, other)"]},
     "widest": {"Segment(low, high, start, rise)": []},
+    "drifts": {"Leg(low, high, one, other)": [], "Drift(legs)": []},
+    "sidewalks": {"Walk(corners, courses)": [], "Tallest(corners, courses)": []},
+    "towers": {"Tower(breadth, one, other, first, second)": [], "NoTower(number, tallest)": []},
+    "wells": {"WellCourse(turning, bricks)": ["__eq__(self, other)"]},
+    "spirals": {"Spiral(girth, bricks)": [], "Longest(girth, bricks)": []},
+    "tariffs": {"Cheapest(price, courses)": ["__eq__(self, other)"], "TariffNet(stands, edges)": ["__eq__(self, other)"]},
 }
-PROPERTIES = (("stock", "Stock", "longest"), ("stretches", "Stretch", "low_shut"))
+PROPERTIES = (("stock", "Stock", "longest"), ("stretches", "Stretch", "low_shut"), ("wells", "WellCourse", "joints"))
 
 
 def module(name):
