@@ -11,31 +11,27 @@ def last_whole(a_count, b_count):
     return None if has_one_kind(a_count, b_count) else last_mark(a_count, b_count)
 
 
-def _places(a_count, b_count):
-    """Return the ratios at which a couple must do: between them, and behind the last, all is on one line."""
-    ratios = ratios_between(a_count, b_count)
-    return (*ratios, (ratios[-1][0] + ratios[-1][1], ratios[-1][1]))
+def _is_enough(differences, a_count, b_count):
+    """Tell whether a couple keeps at each ratio each share up to 1 that some couple of the counts keeps there."""
+    # Between these ratios all is on one line, and behind the last one no distance becomes less.
+    return all([least_distance(differences, ratio) >= _distance_due(a_count, b_count, ratio)
+                for ratio in ratios_between(a_count, b_count)])
 
 
-def _is_enough(differences, a_count, b_count, ratio):
-    """Tell whether a couple keeps at a ratio each share up to 1 that some couple of the counts keeps there."""
+def _distance_due(a_count, b_count, ratio):
+    """Return the greatest share up to 1 that some couple keeps at a ratio, in parts of the ratio's bottom."""
     top, bottom = ratio
     marks = range(1, last_mark(a_count, b_count) + 1)
-    due = min([abs(top - mark * bottom) for mark in marks])
-    return least_distance(differences, ratio) >= min(due, bottom)
+    return min(bottom, min([abs(top - mark * bottom) for mark in marks]))
 
 
 def best_couple(a_count, b_count):
     """Return two patterns that are apart wherever some two patterns of the counts are."""
     check_counts(a_count, b_count)
-    if has_one_kind(a_count, b_count):
-        pattern = (0,) * a_count + (1,) * b_count
-        return (pattern, pattern)
-    ratios = _places(a_count, b_count)
-    for one, other, differences in couples_of(a_count, b_count):
-        if all([_is_enough(differences, a_count, b_count, ratio) for ratio in ratios]):
-            return (one, other)
-    return None
+    couples = couples_of(a_count, b_count)
+    if not has_one_kind(a_count, b_count):
+        couples = [row for row in couples if _is_enough(row[2], a_count, b_count)]
+    return couples[0][:2]
 
 
 def best_fault(a_count, b_count, couple):
@@ -46,6 +42,4 @@ def best_fault(a_count, b_count, couple):
         return word
     joints = pattern_joints(couple[0])
     others = pattern_joints(couple[1])
-    differences = differences_between(joints, others)
-    ratios = _places(a_count, b_count)
-    return None if all([_is_enough(differences, a_count, b_count, ratio) for ratio in ratios]) else "worse"
+    return None if _is_enough(differences_between(joints, others), a_count, b_count) else "worse"

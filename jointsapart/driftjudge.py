@@ -4,7 +4,7 @@ from jointsapart.apartness import differences_between, least_distance
 from jointsapart.drifts import Keeping, check_drift, is_up_to
 from jointsapart.patterns import is_brick_ratio, pattern_counts, pattern_joints
 from jointsapart.ratios import ONE, compare, greatest_of, is_ratio, plus
-from jointsapart.widest import couples_of, has_one_kind, is_pattern, ratios_between, widest_of
+from jointsapart.widest import couples_of, is_pattern, ratios_between, widest_of
 
 
 def drift_fault(a_count, b_count, low, high, drift):
@@ -24,21 +24,20 @@ def drift_fault(a_count, b_count, low, high, drift):
         return "pattern"
     if any([pattern_counts(pattern) != counts for pattern in patterns]):
         return "counts"
-    return None if has_one_kind(a_count, b_count) or _are_wide(counts, legs) else "narrow"
+    return None if _are_wide(counts, legs) else "narrow"
 
 
 def _is_bound(told, due):
     """Tell whether a bound that is told is the one that is due; None is without end."""
-    if due is None or told is None:
-        return due is None and told is None
+    if due is None:
+        return told is None
     return is_ratio(told) and told == due
 
 
 def _are_joined(legs):
     highs = [leg.high for leg in legs]
-    if None in highs[:-1] or not all([high is None or is_ratio(high) for high in highs]):
-        return False
-    if not all([_is_bound(leg.low, high) for leg, high in zip(legs[1:], highs)]):
+    # A low that is None would be the high before it, if that may be None, too.
+    if None in highs[:-1] or not all([_is_bound(leg.low, high) for leg, high in zip(legs[1:], highs)]):
         return False
     return all([is_up_to(leg.low, leg.high) for leg in legs])
 

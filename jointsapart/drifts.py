@@ -3,8 +3,8 @@
 from jointsapart.apartness import least_distance
 from jointsapart.errors import BadDrift
 from jointsapart.patterns import check_brick_ratio, check_counts, is_brick_ratio
-from jointsapart.ratios import ONE, compare, is_ratio, least_of, make_ratio, plus
-from jointsapart.widest import couples_of, has_one_kind, middles_of, ratios_between, widest_of
+from jointsapart.ratios import compare, is_ratio, least_of
+from jointsapart.widest import couples_of, middles_of, ratios_between, widest_of
 
 
 class Leg:
@@ -31,13 +31,9 @@ class Keeping:
     """
 
     def __init__(self, a_count, b_count):
-        if has_one_kind(a_count, b_count):
-            pattern = (0,) * a_count + (1,) * b_count
-            self.ratios = (ONE,)
-            self.rows = [(pattern, pattern, [True])]
-        else:
-            self.ratios = ratios_between(a_count, b_count)
-            self.rows = _rows_keeping(couples_of(a_count, b_count), middles_of(self.ratios))
+        self.ratios = ratios_between(a_count, b_count)
+        self.middles = middles_of(self.ratios)
+        self.rows = _rows_keeping(couples_of(a_count, b_count), self.middles)
 
     def part_of_ratio(self, ratio):
         """Return the number of the part between two ratios that this ratio begins or lies in."""
@@ -63,12 +59,9 @@ class Keeping:
         """Return the ratio at which a part begins, or None behind the last part."""
         return self.ratios[part] if part < len(self.ratios) else None
 
-    def ratio_behind(self, ratio):
-        """Return a ratio in the part that one of the bounds begins, above this bound."""
-        high = self.bound_at(self.part_of_ratio(ratio) + 1)
-        if high is None:
-            return plus(ratio, ONE)
-        return make_ratio(ratio[0] * high[1] + high[0] * ratio[1], 2 * ratio[1] * high[1])
+    def ratio_behind(self, bound):
+        """Return a ratio within the part that one of the bounds begins."""
+        return self.middles[self.part_of_ratio(bound)]
 
 
 def _rows_keeping(couples, middles):

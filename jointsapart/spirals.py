@@ -133,14 +133,15 @@ def spiral_calendar(stock, bricks):
     places = (0, *joints_of(row))
     # The sums of runs are just the whole numbers from 1 on that have one of these rests.
     sums = {(place - other) % length: True for place in places for other in places}
+    # Round a girth below the lap each brick is barred.
     before = max(*row, stock.lap)
-    answers = [girth >= max(row) and _is_right(stock, girth, sums, length) for girth in range(before + length)]
+    answers = [girth >= before and _is_right(stock, girth, sums, length) for girth in range(before + length)]
     return calendar_from(answers, before)
 
 
 def _is_right(stock, girth, sums, length):
     """Tell whether no run has a barred sum, by the rests that the sums have."""
-    return not any([turn * girth + by > 0 and (turn * girth + by) % length in sums
+    return not any([(turn * girth + by) % length in sums
                     for turn in range(1, stock.reach + 1) for by in range(1 - stock.lap, stock.lap)])
 
 

@@ -109,7 +109,7 @@ def well_calendar(stock):
     # In the row of a thing behind n units are the bits of all that comes of it in n units.
     ring = without_first(ring_within(firsts, lambda rows: _rows_behind(graph, rows)))
     answers = [any([rows[number] >> number & 1 for number in numbers]) for rows in ring.things]
-    return calendar_from([False, *[bool(answer) for answer in answers]], ring.back + 1)
+    return calendar_from([False, *answers], ring.back + 1)
 
 
 def _ages_apart(stock):

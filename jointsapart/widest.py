@@ -4,7 +4,7 @@ from jointsapart.apartness import clash_at, differences_between, least_distance
 from jointsapart.errors import BadPattern
 from jointsapart.patterns import (check_brick_ratio, check_counts, check_pattern, check_share, pattern_counts,
                                   pattern_joints, patterns_of)
-from jointsapart.ratios import ONE, ZERO, common_multiple, is_sequence, make_ratio
+from jointsapart.ratios import ONE, common_multiple, is_sequence, make_ratio
 from jointsapart.stretches import Stretch, stretches_without
 
 
@@ -24,8 +24,14 @@ def has_one_kind(a_count, b_count):
 
 
 def couples_of(a_count, b_count):
-    """Return rows (one, other, differences) of all couples of patterns without a joint in common."""
+    """Return rows (one, other, differences) of all couples of patterns without a joint in common.
+
+    Where all bricks are alike there is one row: the only pattern with itself.
+    """
     rows = [(pattern, pattern_joints(pattern)) for pattern in patterns_of(a_count, b_count)]
+    if len(rows) == 1:
+        pattern, joints = rows[0]
+        return [(pattern, pattern, differences_between(joints, joints))]
     couples = []
     for at, (one, joints) in enumerate(rows):
         for other, others in rows[at + 1:]:
@@ -54,7 +60,7 @@ def middles_of(ratios):
 
 
 def widest_of(couples, ratio):
-    """Return the greatest of the least distances of these couples, in parts of the ratio's bottom."""
+    """Return the greatest of the least distances of these couples, in parts of the ratio's bottom, or None."""
     return max([least_distance(differences, ratio) for _, _, differences in couples])
 
 
@@ -62,11 +68,8 @@ def widest_share(a_count, b_count, ratio):
     """Return the greatest share for which two patterns of the counts are apart, or None for one brick."""
     check_counts(a_count, b_count)
     check_brick_ratio(ratio)
-    if a_count + b_count == 1:
-        return None
-    if has_one_kind(a_count, b_count):
-        return ZERO
-    return make_ratio(widest_of(couples_of(a_count, b_count), ratio), ratio[1])
+    widest = widest_of(couples_of(a_count, b_count), ratio)
+    return None if widest is None else make_ratio(widest, ratio[1])
 
 
 def share_profile(a_count, b_count):
@@ -74,8 +77,6 @@ def share_profile(a_count, b_count):
     check_counts(a_count, b_count)
     if a_count + b_count == 1:
         return ()
-    if has_one_kind(a_count, b_count):
-        return (Segment(ONE, None, 0, 0),)
     couples = couples_of(a_count, b_count)
     ratios = ratios_between(a_count, b_count)
     lines = [_line_at(couples, middle) for middle in middles_of(ratios)]
@@ -117,11 +118,9 @@ def couple_for(a_count, b_count, share, ratio):
     check_counts(a_count, b_count)
     top, bottom = check_share(share)
     check_brick_ratio(ratio)
-    if has_one_kind(a_count, b_count):
-        pattern = (0,) * a_count + (1,) * b_count
-        return (pattern, pattern) if a_count + b_count == 1 else None
     for one, other, differences in couples_of(a_count, b_count):
-        if least_distance(differences, ratio) * bottom >= top * ratio[1]:
+        least = least_distance(differences, ratio)
+        if least is None or least * bottom >= top * ratio[1]:
             return (one, other)
     return None
 

@@ -78,6 +78,7 @@ class Made(Case):
         self.assertEqual(len(drift_for(*counts, (10 ** 9 + 1, 10 ** 9), first).legs), 1)
         beyond = ratio_from(fraction(first) + Fraction(1, 10 ** 99))
         self.assertEqual(len(drift_for(*counts, (10 ** 9 + 1, 10 ** 9), beyond).legs), 2)
+        self.assertEqual(drift_marks(*counts, (10 ** 9 + 1, 10 ** 9), first), ((10 ** 9 + 1, 10 ** 9),))
         marks = drift_marks(*counts, (10 ** 9 + 1, 10 ** 9), beyond)
         self.assertEqual(len(marks), 2)
         self.assertGreater(fraction(marks[1]), fraction(first))
@@ -171,6 +172,8 @@ class DriftFault(Case):
         self.check("joined", self.changed(1, low=(9, 1)))
         self.check("joined", self.changed(1, low=None))
         self.check("joined", self.legs[:1] + self.legs)
+        one, other = (0, 0, 1, 0, 1), (1, 0, 1, 0, 0)
+        self.check("joined", (Leg(self.LOW, None, one, other), Leg(None, None, one, other)), self.LOW, None)
         back = [self.legs[0], Leg(self.legs[0].high, self.LOW, (), ()), *self.legs]
         self.check("joined", back)
 
@@ -211,16 +214,32 @@ class DriftFault(Case):
                     self.assertEqual(drift_fault(*counts, ratio_from(low), None, drift), None if wide else "narrow")
 
     def test_narrow_at_one_turn_alone(self):
-        """Each couple, each part between two ratios where distances change their order."""
-        counts = (2, 2)
-        patterns = slow_patterns(*counts)
-        bounds = places_between(counts, Fraction(9, 8), Fraction(6))
-        for low, high in zip(bounds, bounds[2:]):
+        """Each couple, on each two neighbouring parts between ratios where distances change their order."""
+        for counts in ((2, 2), (3, 2), (4, 1), (2, 3)):
+            patterns = slow_patterns(*counts)
+            bounds = places_between(counts, Fraction(9, 8), Fraction(9))
+            for low, high in [*zip(bounds, bounds[2:]), (bounds[0], bounds[-1])]:
+                for at, one in enumerate(patterns):
+                    for other in patterns[at:]:
+                        leg = Leg(ratio_from(low), ratio_from(high), one, other)
+                        due = None if keeps(counts, leg) else "narrow"
+                        self.assertEqual(drift_fault(*counts, leg.low, leg.high, Drift((leg,))), due)
+
+    def test_narrow_within_alone(self):
+        """Couples that keep the widest share at both ends of a leg and not between them."""
+        seen = 0
+        for counts in ((2, 1), (3, 1), (3, 2), (5, 1), (1, 2)):
+            patterns = slow_patterns(*counts)
+            bounds = places_between(counts, Fraction(9, 8), Fraction(9))
             for at, one in enumerate(patterns):
                 for other in patterns[at:]:
-                    leg = Leg(ratio_from(low), ratio_from(high), one, other)
-                    due = None if keeps(counts, leg) else "narrow"
-                    self.assertEqual(drift_fault(*counts, leg.low, leg.high, Drift((leg,))), due)
+                    kept = [place for place in bounds if slow_share(one, other, place) == slow_widest(*counts, place)]
+                    for low, high in zip(kept, kept[1:]):
+                        if bounds.index(high) > bounds.index(low) + 1:
+                            leg = Leg(ratio_from(low), ratio_from(high), one, other)
+                            self.assertEqual(drift_fault(*counts, leg.low, leg.high, Drift((leg,))), "narrow")
+                            seen += 1
+        self.assertGreater(seen, 10)
 
 
 class MarksFault(Case):

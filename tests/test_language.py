@@ -167,6 +167,22 @@ class Language(unittest.TestCase):
             isinstance(PARENTS[id(node)], (ast.For, ast.comprehension)) or isinstance(PARENTS[id(node)], ast.Call)
             and ast.unparse(PARENTS[id(node)].func) in ("list", "tuple", "dict", "sum", "sorted", "enumerate", "zip")), "L23")
 
+    def test_stars_in_calls(self):
+        """Beside a star stand only names, attributes and literals; of builtins only max, min and zip take one."""
+        starred = lambda file: [node for node in file.of(ast.Call)
+                                if any(isinstance(part, ast.Starred) for part in node.args)]
+        own = CLASSES | {node.name for file in FILES.values() for node in file.of(ast.FunctionDef)} | {"max", "min", "zip"}
+        self.each(starred, lambda node: ast.unparse(node.func) in own and not node.keywords, "L7")
+        self.each(starred, lambda node: all(isinstance(part.value if isinstance(part, ast.Starred) else part, (
+            ast.Name, ast.Attribute, ast.Constant)) for part in node.args), "L7")
+
+    def test_names_of_the_library(self):
+        """Such a name is only called, with all arguments by position and without stars."""
+        names = {name for found in LIBRARY.values() for name in found}
+        self.each(lambda file: [node for node in file.of(ast.Name) if node.id in names & set(file.imported())], lambda node: (
+            isinstance(PARENTS[id(node)], ast.Call) and PARENTS[id(node)].func is node and not PARENTS[id(node)].keywords
+            and not any(isinstance(part, ast.Starred) for part in PARENTS[id(node)].args)), "L2")
+
     def test_expressions(self):
         self.each(lambda file: file.of(ast.Constant), lambda node: not isinstance(node.value, (float, complex)), "L7")
         self.each(lambda file: file.of(ast.BinOp, ast.AugAssign), lambda node: not isinstance(

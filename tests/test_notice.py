@@ -196,6 +196,16 @@ class Wait(Case):
                         break
                 self.assertEqual(least_wait(stock, end, every=every, since=since), due)
 
+    def test_clock_by_default(self):
+        """Calls at any moment from the beginning."""
+        four = Stock((1, 4))
+        self.assertEqual((least_wait(four, NOTHING), least_wait(four, NOTHING, every=2)), (3, 2))
+        self.assertEqual(least_wait(four, NOTHING, every=1, since=0), 3)
+        five = Stock((1, 5))
+        self.assertEqual((least_wait(five, ((3, False),)), least_wait(five, ((3, False),), since=1)), (2, 1))
+        self.assertEqual(notice_calendar(TWO, NOTHING), Calendar(5, (), 1, (0,)))
+        self.assertEqual(notice_calendar(TWO, NOTHING, every=2), Calendar(5, (3,), 1, (0,)))
+
     def test_who_goes_far_waits(self):
         for stock, end in some_ends():
             plain = Plain(stock, end)

@@ -60,6 +60,19 @@ class Made(Case):
         self.assertIs(type(notice_plan(TWO, NOTHING, 4, every=2)), NoPlan)
         self.assertIs(type(notice_plan(TWO, NOTHING, 3, every=2)), Plan)
 
+    def test_clock_by_default(self):
+        """Calls at any moment from the beginning."""
+        self.assertIs(type(notice_plan(TWO, NOTHING, 3)), NoPlan)
+        self.assertIs(type(notice_plan(TWO, NOTHING, 3, every=2)), Plan)
+        plan = notice_plan(TWO, NOTHING, 5)
+        self.assertEqual(plan, notice_plan(TWO, NOTHING, 5, every=1, since=0))
+        odd = Plan(plan.way + plan.ring, plan.ring * 3)
+        self.assertEqual(len(odd.ring) % 2, 1)
+        self.assertIs(plan_fault(TWO, NOTHING, odd, 5), None)
+        none = notice_plan(TWO, NOTHING, 3)
+        self.assertIs(noplan_fault(TWO, NOTHING, none, 3), None)
+        self.assertEqual(noplan_fault(TWO, NOTHING, none, 3, every=2), "bound")
+
     def test_equal(self):
         plan = Plan(((1,),), ((2,),))
         self.assertIs(plan == Plan(((1,),), ((2,),)), True)
@@ -217,6 +230,8 @@ class NoPlanFault(Case):
         for row in ((False, *start[1:]), (0, ((0, 1), (0, 1)), start[2]), (*start[:2], True), (*start[:2], None), [*start],
                     (*start, 1), None):
             self.check("first", [row, *others])
+        self.check("first", [*others, (9, *start[1:])])
+        self.check(None, [*self.rows, (9, *start[1:])])
         # The end itself fails: nothing needs to be told.
         self.assertIs(noplan_fault(TWO, NOTHING, NoPlan(()), 4, every=2), None)
         self.assertIs(noplan_fault(TWO, NOTHING, NoPlan(()), 1), None)

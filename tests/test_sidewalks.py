@@ -82,7 +82,11 @@ class Walks(Case):
 
     def test_longer_sides(self):
         for stock, side, word in ((STOCKS[0], 10, "pbpmm"), (STOCKS[1], 9, "pbm"), (STOCKS[3], 10, "ppm"), (STOCKS[6], 10, "pmbpm"),
-                                  (STOCKS[8], 10, "ppppb"), (STOCKS[9], 10, "pbpmpm")):
+                                  (STOCKS[8], 10, "ppppb"), (STOCKS[9], 10, "pbpmpm"),
+                                  # Here some states stand in longer rings alone.
+                                  (Stock((3, 4, 5, 7), 2), 10, "ppb"), (Stock((1, 2, 3)), 9, "pbppb"),
+                                  (Stock((2, 3)), 10, "bmppp"), (Stock((3, 4, 5, 7), 2), 10, "pbp"),
+                                  (Stock((2, 3)), 10, "mpppb"), (Stock((2, 3)), 10, "ppbmp")):
             self.check(stock, 1, side, word, side_walk(stock, 1, side, word))
 
     def test_standard_word(self):

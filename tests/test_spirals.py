@@ -8,7 +8,9 @@ from jointsapart.stock import Stock
 from tests.helper import NOT_SEQUENCES, NOT_WHOLE, Case
 
 STOCKS = [Stock((2, 3)), Stock((2, 3), 1, 2), Stock((1, 3), 1, 2), Stock((3, 4), 2), Stock((1, 2, 4), 2, 2), Stock((1,)),
-          Stock((4, 6), 2, 2), Stock((5,), 4, 2), Stock((8,), 2, 2), Stock((2, 3, 6), 1, 2), Stock((1, 2, 3), 1, 2), Stock((1, 2), 4)]
+          Stock((4, 6), 2, 2), Stock((5,), 4, 2), Stock((8,), 2, 2), Stock((2, 3, 6), 1, 2), Stock((1, 2, 3), 1, 2), Stock((1, 2), 4),
+          Stock((1, 4), 1, 2), Stock((1, 3, 5, 7), 2, 2), Stock((2, 3, 4), 1, 2), Stock((1, 2, 4), 1, 2), Stock((1, 2, 5), 2),
+          Stock((1, 6, 8), 2), Stock((2, 4, 5), 1)]
 TWO = Stock((2, 3))
 
 

@@ -57,6 +57,11 @@ class Towers(Case):
         for number in (-1, 10 ** 30 + 1, *NOT_WHOLE):
             self.refused("NoNumber", {"number": number}, tower_course, tower, number)
 
+    def test_longest_sides(self):
+        self.assertIs(type(tower_for(TWO, 1, 10, 10)), Tower)
+        self.assertIs(type(tower_for(Stock((1, 2, 3)), 4, 10, 9)), Tower)
+        self.assertIs(tower_height(Stock((1, 2, 3)), 4, 9, 10), None)
+
     def test_bricks(self):
         for stock in STOCKS[:3]:
             for word in (None, "pbm", "pppp"):
