@@ -141,7 +141,7 @@ def noplan_fault(stock, end, noplan, units, *, every=1, since=0):
     check_far(units)
     check_clock(every, since)
     rows = [row for row in noplan.bounds if _is_row(row, since + every)]
-    graph = graph_of_stands(stock, [first, *[stand for _, stand, _ in rows]])
+    graph = graph_of_stands(stock, [first, *[row[1] for row in rows]])
     calls = finishing_ring(stock, graph).at(units)
     fails = {(since, stand): True for number, stand in enumerate(graph.things) if not calls >> number & 1}
     bounds = {(phase, stand): bound for phase, stand, bound in rows}

@@ -61,7 +61,7 @@ def middles_of(ratios):
 
 def widest_of(couples, ratio):
     """Return the greatest of the least distances of these couples, in parts of the ratio's bottom, or None."""
-    return max([least_distance(differences, ratio) for _, _, differences in couples])
+    return max([least_distance(row[2], ratio) for row in couples])
 
 
 def widest_share(a_count, b_count, ratio):
@@ -90,7 +90,7 @@ def _line_at(couples, ratio):
     """Return (start, rise) of the widest share around a ratio at which no two lines meet."""
     top, bottom = ratio
     widest = widest_of(couples, ratio)
-    shorts, longs = [line for _, _, differences in couples for line in differences
+    shorts, longs = [line for row in couples for line in row[2]
                      if abs(line[0] * bottom + line[1] * top) == widest][0]
     return (shorts, longs) if shorts * bottom + longs * top > 0 else (-shorts, -longs)
 
