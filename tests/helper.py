@@ -168,3 +168,43 @@ def slow_face(breadth, letter, course):
 
 def slow_faces_apart(stock, breadth, one, other):
     return all(abs(joint - place) >= stock.lap for joint in slow_face(breadth, *one) for place in slow_face(breadth, *other))
+
+
+def slow_cracks(wall):
+    """The places of all cracks of a wall, ascending."""
+    return list(product(range(1, wall.length), repeat=len(wall)))
+
+
+def slow_crack_price(wall, prices, places):
+    """What a crack costs, in the words of [8.1]."""
+    through = sum(0 if place in slow_joints(course) else prices.brick for place, course in zip(places, wall.courses))
+    return through + sum(prices.bed * abs(one - other) for one, other in zip(places, places[1:]))
+
+
+# Things that are no ratios: other kinds, other numbers of entries, not in lowest terms, with no whole numbers in them.
+NOT_RATIOS = (None, 1, 0, True, "1", [1, 2], (), (1,), (1, 2, 3), (2, 4), (0, 2), (1, 0), (-1, -2), (True, 1), (1, True),
+              (1, None), ("1", 2), (1, -2))
+
+
+def slow_ends(course, number):
+    """Where a brick of a course begins and ends."""
+    return sum(course[:number]), sum(course[:number + 1])
+
+
+def slow_common(wall, upper, lower):
+    """The common length of two bricks (course, number)."""
+    left, right = slow_ends(wall.courses[upper[0]], upper[1])
+    start, end = slow_ends(wall.courses[lower[0]], lower[1])
+    return max(0, min(right, end) - max(left, start))
+
+
+def slow_loads(wall, loads, weight):
+    """The rows of all loads as fractions, lowest course first, in the words of [9.2]."""
+    rows = []
+    handed = [Fraction(*load) for load in loads]
+    for course in range(len(wall) - 1, -1, -1):
+        borne = [amount + Fraction(*weight) * brick for amount, brick in zip(handed, wall.courses[course])]
+        rows.insert(0, borne)
+        handed = [sum(Fraction(slow_common(wall, (course, at), (course - 1, under)), brick) * borne[at]
+                      for at, brick in enumerate(wall.courses[course])) for under in range(len(wall.courses[course - 1]))]
+    return rows

@@ -98,8 +98,30 @@ FUNCTIONS = {
         "spiral_joints(spiral, number)"],
     "tariffs": [
         "cut_tariff(stock)", "cheapest_lot(stock, tariff, length)", "tariff_net(stock, tariff)", "tariff_rate(stock, tariff)"],
+    "cracks": [
+        "crack_price(wall, prices, places)", "least_crack(wall, prices)", "crack_from(wall, prices, place)",
+        "floor_numbers(wall, prices)"],
+    "crackjudge": [
+        "floor_bound(numbers)", "floor_fault(wall, prices, numbers)", "crack_fault(wall, prices, crack)",
+        "least_fault(wall, prices, crack, numbers)"],
+    "allcracks": ["cracks_within(wall, prices, most)", "count_cracks(wall, prices)"],
+    "everyheight": [
+        "round_crack(laid, prices, height)", "crack_at(calendar, height)", "crack_calendar(laid, prices, *, most=4000)",
+        "stays_stronger(one, other)"],
+    "crackrates": ["crack_rate(laid, prices)", "rate_fault(laid, prices, rate)"],
+    "strongest": ["strongest_round(stock, length, prices)"],
+    "loads": [
+        "check_loads(wall, loads)", "check_weight(weight)", "load_rows(wall, loads, weight)",
+        "feet_of(wall, loads, weight)", "even_loads(wall, pressure)"],
+    "shares": [
+        "check_brick(wall, brick)", "shares_of(wall, brick)", "share_rows(wall)", "spread_of(wall, number)",
+        "heaviest_load(wall, brick, total, weight)", "lightest_load(wall, brick, total, weight)"],
+    "readers": [
+        "reader_of(wall, *, most=30)", "reader_fault(wall, reader)", "twins_fault(wall, twins)",
+        "read_loads(wall, reader, feet, weight)"],
 }
-GENERATORS = {"courses_of", "all_clashes", "free_courses", "apart_lots", "all_rounds", "patterns_of", "well_courses"}
+GENERATORS = {"courses_of", "all_clashes", "free_courses", "apart_lots", "all_rounds", "patterns_of", "well_courses",
+              "cracks_within"}
 CLASSES = {
     "stock": {"Stock(bricks, lap=1, reach=1)": [
         "with_brick(self, brick)", "without_brick(self, brick)", "with_lap(self, lap)", "with_reach(self, reach)",
@@ -125,6 +147,12 @@ CLASSES = {
     "wells": {"WellCourse(turning, bricks)": ["__eq__(self, other)"]},
     "spirals": {"Spiral(girth, bricks)": [], "Longest(girth, bricks)": []},
     "tariffs": {"Cheapest(price, courses)": ["__eq__(self, other)"], "TariffNet(stands, edges)": ["__eq__(self, other)"]},
+    "cracks": {"Prices(brick, bed)": ["__eq__(self, other)"], "Crack(price, places)": ["__eq__(self, other)"]},
+    "everyheight": {"CrackCalendar(firsts, period, growth)": ["__eq__(self, other)"]},
+    "crackrates": {"CrackRate(ratio, ring, numbers)": []},
+    "strongest": {"Strongest(laid, ratio)": []},
+    "shares": {"Extreme(load, number)": []},
+    "readers": {"Reader(rows)": [], "Twins(one, other)": []},
 }
 PROPERTIES = (("stock", "Stock", "longest"), ("stretches", "Stretch", "low_shut"), ("wells", "WellCourse", "joints"))
 
