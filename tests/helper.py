@@ -208,3 +208,44 @@ def slow_loads(wall, loads, weight):
         handed = [sum(Fraction(slow_common(wall, (course, at), (course - 1, under)), brick) * borne[at]
                       for at, brick in enumerate(wall.courses[course])) for under in range(len(wall.courses[course - 1]))]
     return rows
+
+
+def bricks_of(wall):
+    """All bricks of a wall, ascending."""
+    return [(course, number) for course, row in enumerate(wall.courses) for number in range(len(row))]
+
+
+def slow_rests(wall, brick, bundle):
+    """Whether a brick rests on a bundle, in the words of [9.9]."""
+    if brick[0] == 0:
+        return True
+    left, right = slow_ends(wall.courses[brick[0]], brick[1])
+    places = []
+    for under in bundle:
+        if under[0] == brick[0] - 1 and slow_common(wall, brick, under) >= 1:
+            start, end = slow_ends(wall.courses[under[0]], under[1])
+            places += range(2 * max(left, start), 2 * min(right, end) + 1)
+    return any(place <= left + right for place in places) and any(place >= left + right for place in places)
+
+
+def slow_steady(wall):
+    """All steady bundles of a small wall, as frozen sets."""
+    bricks = bricks_of(wall)
+    bundles = [frozenset(brick for at, brick in enumerate(bricks) if bits >> at & 1) for bits in range(1 << len(bricks))]
+    return [bundle for bundle in bundles if all(slow_rests(wall, brick, bundle) for brick in bundle)]
+
+
+def in_bundle_order(bundles):
+    """Bundles of fewer bricks first, those of equally many ascending."""
+    return tuple(sorted((tuple(sorted(bundle)) for bundle in bundles), key=lambda bundle: (len(bundle), bundle)))
+
+
+def slow_signs(course, length):
+    """The signs of all places of a course."""
+    return "".join("j" if place in slow_joints(course) else "b" for place in range(1, length))
+
+
+def slow_fillings(ruin):
+    """The courses of all fillings of a ruin, ascending, by going through all right walls."""
+    return [courses for courses in slow_walls(ruin.stock, ruin.length, len(ruin.rows)) if all(
+        seen in ("?", sign) for row, course in zip(ruin.rows, courses) for seen, sign in zip(row, slow_signs(course, ruin.length)))]

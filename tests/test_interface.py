@@ -119,9 +119,21 @@ FUNCTIONS = {
     "readers": [
         "reader_of(wall, *, most=30)", "reader_fault(wall, reader)", "twins_fault(wall, twins)",
         "read_loads(wall, reader, feet, weight)"],
+    "takings": [
+        "check_bundle(wall, bundle)", "does_rest(wall, brick, bundle)", "is_steady(wall, bundle)", "left_after(wall, taken)",
+        "take_order(wall, bundle)", "order_fault(wall, order)"],
+    "props": [
+        "least_props(wall, brick, *, most=14)", "least_takings(wall, brick, *, most=14)", "fewest_takings(wall, *, most=14)"],
+    "ruins": ["ruin_of(wall)", "fillings(ruin)", "count_fillings(ruin)"],
+    "sureruins": ["sure_rows(ruin)", "two_fillings(ruin, course, place)"],
+    "misfits": ["least_misfits(ruin)"],
+    "changes": ["stock_after(stock, changes)"],
+    "wishes": ["broken_wish(stock, wishes)", "broken_fault(stock, wishes, broken)"],
+    "mends": [
+        "find_mends(stock, pool, wishes)", "mends_fault(stock, pool, wishes, mends)", "find_spoilers(stock, pool, wishes)"],
 }
 GENERATORS = {"courses_of", "all_clashes", "free_courses", "apart_lots", "all_rounds", "patterns_of", "well_courses",
-              "cracks_within"}
+              "cracks_within", "fillings"}
 CLASSES = {
     "stock": {"Stock(bricks, lap=1, reach=1)": [
         "with_brick(self, brick)", "without_brick(self, brick)", "with_lap(self, lap)", "with_reach(self, reach)",
@@ -153,8 +165,18 @@ CLASSES = {
     "strongest": {"Strongest(laid, ratio)": []},
     "shares": {"Extreme(load, number)": []},
     "readers": {"Reader(rows)": [], "Twins(one, other)": []},
+    "takings": {"Falls(brick)": []},
+    "props": {"Weakest(bundle, fallen)": []},
+    "ruins": {"Ruin(stock, length, rows)": [
+        "with_sign(self, course, place, sign)", "mirrored(self)", "upturned(self)", "__eq__(self, other)", "__len__(self)"]},
+    "wishes": {"Broken(index, why)": []},
+    "mends": {"Mends(least, losses)": [], "Spoiler(choice, added, reason)": [], "NoStock()": ["__eq__(self, other)"]},
+    "bench": {"Bench(stock)": [
+        "put(self, change)", "take_back(self, number)", "broken(self, wishes)", "trial(self)", "tried(self, call)",
+        "__len__(self)", "__iter__(self)"]},
 }
-PROPERTIES = (("stock", "Stock", "longest"), ("stretches", "Stretch", "low_shut"), ("wells", "WellCourse", "joints"))
+PROPERTIES = (("stock", "Stock", "longest"), ("stretches", "Stretch", "low_shut"), ("wells", "WellCourse", "joints"),
+              ("ruins", "Ruin", "seen"), ("mends", "Mends", "needed"))
 
 
 def module(name):

@@ -142,16 +142,26 @@ class Language(unittest.TestCase):
     def test_bodies_of_double_underscores(self):
         """One statement each: what iterates, measures and compares does nothing else."""
         forms = {"__iter__": r"return iter\(self\.\w+\)", "__len__": r"return len\(self\.\w+\)",
-                 "__eq__": r"return isinstance\(other, \w+\)( and \(?self\.\w+ == other\.\w+\)?)+"}
+                 "__eq__": r"return isinstance\(other, \w+\)( and \(?self\.\w+ == other\.\w+\)?)*"}
         self.each(lambda file: [node for node in file.of(ast.FunctionDef) if node.name in forms], lambda node: (
             len(node.body) == 1 and re.fullmatch(forms[node.name], ast.unparse(node.body[0]))), "L5, L28")
 
     def test_operators_and_properties_change_nothing(self):
         """No attribute or item is assigned in them."""
         self.each(lambda file: [part for node in file.of(ast.FunctionDef)
-                                if node.decorator_list or node.name.startswith("__") and node.name != "__init__"
+                                if node.decorator_list or node.name.startswith("__")
+                                and node.name not in ("__init__", "__enter__", "__exit__")
                                 for part in ast.walk(node)],
                   lambda node: not isinstance(node, (ast.Attribute, ast.Subscript)) or isinstance(node.ctx, ast.Load), "L5")
+
+    def test_ends_of_trials(self):
+        """In __exit__ attributes are assigned attributes, and what is told of the error is not read."""
+        ends = [(file, node) for file in FILES.values() for node in file.of(ast.FunctionDef) if node.name == "__exit__"]
+        self.assertTrue(ends)
+        for file, node in ends:
+            self.assertEqual(ast.unparse(node.args), "self, kind, value, trace")
+            for row in node.body:
+                self.assertRegex(ast.unparse(row), r"^(\w+ = self\.\w+|\w+\.\w+ = self(\.\w+)+)$", file.name)
 
     def test_attributes_and_methods_have_names_of_their_own(self):
         methods = {node.name for file in FILES.values() for node in file.of(ast.FunctionDef)
