@@ -119,15 +119,20 @@ def _ring_from(lasting, first, most):
     crowd = [first]
     steps = 0
     while crowd and first not in before and steps != most:
-        behind = []
-        for state in crowd:
-            for after in lasting[state]:
-                if after not in before:
-                    before[after] = state
-                    behind.append(after)
-        crowd = behind
+        crowd = _crowd_behind(lasting, crowd, before)
         steps += 1
     return _way_back(before, first, steps) if first in before else None
+
+
+def _crowd_behind(lasting, crowd, before):
+    """Return the states that come of these and of none earlier; `before` is told the state ahead of each."""
+    behind = []
+    for state in crowd:
+        for after in lasting[state]:
+            if after not in before:
+                before[after] = state
+                behind.append(after)
+    return behind
 
 
 def _way_back(before, last, many):

@@ -247,6 +247,30 @@ class Language(unittest.TestCase):
         names = [node.name for file in FILES.values() for node in file.of(ast.FunctionDef)]
         self.assertEqual([name for name in GENERATORS if names.count(name) > 1], [])
 
+    def test_what_a_loop_walks_is_not_changed_in_it(self):
+        """Neither by its name nor by another name that the function gives to the same thing."""
+        changing = {"append", "clear", "extend", "insert", "pop", "remove", "reverse", "setdefault", "update", "sort"}
+
+        def names_in(node):
+            return {part.id for part in ast.walk(node) if isinstance(part, ast.Name)}
+
+        def changed_in(loop):
+            for node in ast.walk(loop):
+                if isinstance(node, ast.Call) and isinstance(node.func, ast.Attribute) and node.func.attr in changing:
+                    yield from names_in(node.func.value)
+                if isinstance(node, ast.Subscript) and not isinstance(node.ctx, ast.Load):
+                    yield from names_in(node.value)
+
+        for file in FILES.values():
+            for function in file.of(ast.FunctionDef):
+                same = [{node.targets[0].id, node.value.id} for node in ast.walk(function) if isinstance(node, ast.Assign)
+                        and isinstance(node.targets[0], ast.Name) and isinstance(node.value, ast.Name)]
+                for loop in [node for node in ast.walk(function) if isinstance(node, ast.For)]:
+                    walked = set() if ast.unparse(loop.iter).startswith("range(") else names_in(loop.iter)
+                    for _ in same:
+                        walked = walked.union(*[names for names in same if names & walked])
+                    self.assertEqual(walked & set(changed_in(loop)), set(), (file.name, loop.lineno))
+
     def test_errors(self):
         allowed = CLASSES | {"KeyError", "ZeroDivisionError"}
         self.each(lambda file: file.of(ast.ExceptHandler), lambda node: node.type is not None and all(
