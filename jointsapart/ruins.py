@@ -42,7 +42,7 @@ class Ruin:
     def with_sign(self, course, place, sign):
         """Return the ruin with this sign at this spot."""
         check_spot(self, course, place)
-        if not isinstance(sign, str) or sign not in SIGNS:
+        if sign not in SIGNS:
             raise BadSign()
         rows = list(self.rows)
         rows[course] = rows[course][:place - 1] + sign + rows[course][place:]

@@ -11,23 +11,21 @@ def sure_rows(ruin):
         raise NoFilling()
     rows = []
     tops = [()]
-    for level, row in enumerate(ruin.rows):
+    for level in range(len(ruin)):
         steps = [(top, number) for top in tops for number in filler.numbers_on(level, top)]
         numbers = {number: True for _, number in steps}
-        rows.append(_sure_row(row, [filler.table.places[number] for number in numbers]))
+        rows.append(_sure_row([filler.table.places[number] for number in numbers], ruin.length))
         unlike = {filler.table.top_with(top, number): True for top, number in steps}
         tops = list(unlike)
     return tuple(rows)
 
 
-def _sure_row(row, courses):
-    """Return the row with each sign that all these courses have, told by the bits of their joints."""
-    return "".join([_sure_sign(sign, [bits >> at + 1 & 1 for bits in courses]) for at, sign in enumerate(row)])
+def _sure_row(courses, length):
+    """Return a row with the signs that all these courses have, told by the bits of their joints."""
+    return "".join([_sure_sign([bits >> place & 1 for bits in courses]) for place in range(1, length)])
 
 
-def _sure_sign(sign, joints):
-    if sign != "?":
-        return sign
+def _sure_sign(joints):
     if min(joints) == 1:
         return "j"
     return "b" if max(joints) == 0 else "?"

@@ -135,6 +135,11 @@ class Spoilers(Case):
                     after = stock_after(stock, [pool[place] for place in sorted([*spoiler.choice, spoiler.added])])
                     self.assertIs(broken_fault(after, wishes, spoiler.reason), None)
 
+    def test_an_added_change_takes_its_place_in_the_pool(self):
+        stock, pool = Stock((2, 3), 4), [("lap", 4), ("lap", 1), ("lap", 3)]
+        self.assertEqual(find_mends(stock, pool, [("every", 5)]).least, ((1,),))
+        self.assertEqual([spoiler.added for spoiler in find_spoilers(stock, pool, [("every", 5)])], [2])
+
     def test_a_spoiler_without_a_stock(self):
         found = find_spoilers(Stock((2,)), [("let", 3), ("strike", 2), ("strike", 3)], [("not every", 4)])
         self.assertEqual([(spoiler.choice, spoiler.added, told(spoiler.reason)) for spoiler in found][:1], [((), 1, "stock")])

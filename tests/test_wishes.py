@@ -179,7 +179,8 @@ class Judged(Case):
                 sum(lot[1][:at]) for at in range(1, len(lot[1]))} else "why"
             self.assertEqual(broken_fault(stock, [("not every", 5)], Broken(0, lot)), due)
         for why in (((3, 2, 2), (2, 2, 3)), ((2, 2, 3),), ((2, 2, 3), (3, 2, 2), (3, 2, 2)), ((2, 2, 3), (2, 2, 3)), ((2, 3), (3, 2)), (),
-                    ((2, 2, 3), (2, 3, 2)), None, 7, courses_for(TWO, 4), ((7,), (7,)), ((2, 2, 3), None), "ab", [], (1, 2),
+                    ((2, 2, 3), (2, 3, 2)), None, 7, courses_for(TWO, 4), ((7,), (7,)), ((2, 2, 3), None), "ab", [], (1, 2), [(2, 2, 3), (3, 2, 2)],
+                    ((2, 2, 3), [3, 2, 2]), ([2, 2, 3], [3, 2, 2]),
                     Round(TWO, ((2, 2, 3), (3, 2, 2)))):
             self.check("why", wish, why)
         self.check(None, ("not every", 2), ((2,), (2,)))
