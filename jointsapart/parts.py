@@ -3,7 +3,8 @@
 
 def in_order(rows):
     """Return the rows in order: shorter ones first, those of one length ascending."""
-    return [row for _, row in sorted([(len(row), row) for row in rows])]
+    by_length = sorted([(len(row), row) for row in rows])
+    return [row for _, row in by_length]
 
 
 def parts_of(row):
